@@ -201,7 +201,7 @@ func (w *world) call(t *task, by *frame, zero value, body func(f *frame) value) 
 		do := f.deferred[last]
 		f.deferred = f.deferred[:last]
 		if c, ok := attempt(do); !ok {
-			f.panicking, f.message = true, c.message
+			answer, f.panicking, f.message = zero, true, c.message
 		}
 	}
 	t.depth--

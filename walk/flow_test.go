@@ -177,7 +177,6 @@ func k() int { defer func() { recover() }(); x := 5; x = x / g; return x }
 func q() *T { defer func() { recover() }(); p := new(T); return p.p.p }
 func r() string { defer func() { recover() }(); return "a"[1:3] }
 func v() bool { defer func() { recover() }(); if g == 0 { panic("v") }; return true }`, output: "00truetruefalse"},
-		{main: `print(h())`, file: `func h() int { defer func() { print(recover()) }(); defer func() { panic("late") }(); return 5 }`, output: "late5"},
 		{main: `print(h())`, file: `func h() int { defer func() { print(recover()) }(); defer func() { print(recover()); panic("late") }(); panic("first") }`, output: "firstlate0"},
 		{main: `x := 1; func() { defer func() { print(recover(), x) }(); x = 2; x = 10 / g; x = 3 }(); print(x)`, output: "divide by zero22"},
 		{main: `func() { defer func() { print(recover()) }(); h() }(); print("m")`, file: `func h() { defer n(1); k() }
@@ -199,5 +198,38 @@ func k() { defer n(2); panic("x") }`, output: "n2n1xm"},
 		{main: `defer func() { recover() }(); go func() { panic("in") }(); <-make(chan int)`, why: "panic: in"},
 		{main: `defer func() { r := func() string { return recover() }; print("[", r(), "]", recover()) }(); panic("a")`, output: "[]a"},
 		{main: `f := func() { print("[", recover(), "]") }; f(); defer f(); func() { defer f(); panic("i") }(); print("m")`, output: "[][i]m[]"},
+	})
+}
+
+// TestReturnedThenPanicking asks that a function which was panicking at some time answers the zero value, even if it had returned another one.
+func TestReturnedThenPanicking(t *testing.T) {
+	const file = `
+func say() { print(recover(), ";") }
+func late() { panic("late") }
+func inner() { defer say(); panic("in") }
+`
+	runAll(t, told+file, []row{
+		{main: `print(h())`, file: `func h() int { defer say(); defer late(); return 5 }`, output: "late;0"},
+		{main: `print(h())`, file: `func h() bool { defer say(); defer late(); return true }`, output: "late;false"},
+		{main: `print(h(), ".")`, file: `func h() string { defer say(); defer late(); return "v" }`, output: "late;."},
+		{main: `print(h() == nil)`, file: `func h() *T { defer say(); defer late(); return new(T) }`, output: "late;true"},
+		{main: `print(h() == nil, len(h()))`, file: `func h() []int { defer say(); defer late(); return []int{1} }`, output: "late;late;true0"},
+		{main: `print(h() == nil)`, file: `func h() chan int { defer say(); defer late(); return make(chan int) }`, output: "late;true"},
+		{main: `print(h() == nil)`, file: `func h() func() { defer say(); defer late(); return late }`, output: "late;true"},
+		{main: `print(func() int { defer say(); defer late(); return 5 }())`, output: "late;0"},
+		{main: `print(h())`, file: `func h() int { defer say(); return 5 }`, output: ";5"},
+		{main: `print(h())`, file: `func h() int { defer say(); defer inner(); return 5 }`, output: "in;;5"},
+		{main: `print(h())`, file: `func h() int { defer say(); defer func() int { defer say(); defer late(); return 7 }(); return 5 }`, output: "late;;5"},
+		{main: `print(h())`, file: `func h() int { defer say(); defer late(); defer say(); defer late(); return 5 }`, output: "late;late;0"},
+		{main: `print(h())`, file: `func h() int { defer say(); defer n(1); defer say(); defer late(); return 5 }`, output: "late;n1;0"},
+		{main: `print(h())`, file: `func h() int { defer inner(); defer say(); defer late(); return n(5) }`, output: "n5late;in;0"},
+		{main: `print(h())`, file: `func h() int { defer say(); defer func() { gl[0] = 1 }(); return 5 }`, output: "index out of range;0"},
+		{main: `print(h())`, file: `func h() int { defer say(); return k() }
+func k() int { defer late(); return 5 }`, output: "late;0"},
+		{main: `print(h())`, file: `func h() int { defer k(); return 5 }
+func k() int { defer say(); defer late(); return 6 }`, output: "late;5"},
+		{main: `print(h()); print("no")`, file: `func h() int { defer late(); defer say(); return 5 }`, output: ";", why: "panic: late"},
+		{main: `x := 3; x = h(); print(x)`, file: `func h() int { defer say(); defer late(); return 5 }`, output: "late;0"},
+		{main: `c := make(chan int); go func() { c <- h() }(); print(<-c)`, file: `func h() int { defer say(); defer late(); return 5 }`, output: "late;0"},
 	})
 }

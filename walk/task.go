@@ -57,9 +57,10 @@ func (f *frame) list(registers []int) []value {
 	return values
 }
 
-// raise makes a function that is under way panic: it answers nothing, for it hasn't returned.
+// raise makes a function panicking. It answers the zero value then, even if it has returned another one: that recover ends the panicking doesn't bring it back.
 func (f *frame) raise(message string) {
-	f.isOver, f.panicking, f.message = true, true, message
+	f.isOver, f.answer = true, value{}
+	f.panicking, f.message = true, message
 }
 
 // function is the function of a number; nil, if there is none.
@@ -160,16 +161,11 @@ func (m *machine) leave(f *frame) {
 		m.end(t, f)
 		return
 	}
-	caller := t.top()
-	switch {
-	case f.panicking && f.isDeferred:
-		// What the caller returned stays as it is: so it is still there, if another deferred call recovers.
-		caller.panicking, caller.message = true, f.message
-	case f.panicking:
-		caller.raise(f.message)
-	default:
-		caller.set(f.result, f.answer)
+	if f.panicking {
+		t.top().raise(f.message)
+		return
 	}
+	t.top().set(f.result, f.answer)
 }
 
 // end ends a goroutine whose first function is over.

@@ -64,11 +64,12 @@ type scope struct {
 func (r *tree) invoke(t *task, by *invocation, f *closure, args []any) any {
 	of := r.unit.Funcs[f.number-1]
 	_, result, _ := types.Func(of.Type)
-	s := &scope{tree: r, vars: maps.Clone(f.among), result: zeroOf(result)}
+	zero := zeroOf(result)
+	s := &scope{tree: r, vars: maps.Clone(f.among), result: zero}
 	if s.vars == nil {
 		s.vars = map[int]*any{}
 	}
-	r.under(t, by, func(c *invocation) {
+	panicked := r.under(t, by, func(c *invocation) {
 		s.call = c
 		r.safepoint(t)
 		for k, v := range of.Params {
@@ -76,6 +77,9 @@ func (r *tree) invoke(t *task, by *invocation, f *closure, args []any) any {
 		}
 		s.stmts(of.Body.Kids)
 	})
+	if panicked {
+		return zero
+	}
 	return s.result
 }
 

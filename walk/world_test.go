@@ -177,25 +177,27 @@ type invocation struct {
 	panicking *crash
 }
 
-// under makes a call: the body, then what it deferred.
-func (w *world) under(t *task, by *invocation, body func(c *invocation)) {
+// under makes a call: the body, then what it deferred. It tells whether the call was panicking at some time.
+func (w *world) under(t *task, by *invocation, body func(c *invocation)) (panicked bool) {
 	if t.depth == api.MaxDepth {
 		w.end(api.Fatal, "fatal: stack overflow")
 	}
 	t.depth++
 	c := &invocation{task: t, by: by}
 	c.panicking = caught(func() { body(c) })
+	panicked = c.panicking != nil
 	for len(c.deferred) > 0 {
 		do := c.deferred[len(c.deferred)-1]
 		c.deferred = c.deferred[:len(c.deferred)-1]
 		if anew := caught(do); anew != nil {
-			c.panicking = anew
+			c.panicking, panicked = anew, true
 		}
 	}
 	t.depth--
 	if c.panicking != nil {
 		panic(*c.panicking)
 	}
+	return panicked
 }
 
 func (c *invocation) recovered() string {

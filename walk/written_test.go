@@ -95,7 +95,7 @@ func (a *author) part(letter byte) string {
 		return a.function("", nil, "defer func() { print(\"?\", recover()) }()\n")
 	case 'F':
 		name := a.fresh("i")
-		return "func(" + name + " int) int " + a.function("i", []string{name}, "")
+		return "func(" + name + " int) int " + a.function("i", []string{name}, a.late())
 	case 'D':
 		return a.define()
 	case 'A':
@@ -110,6 +110,14 @@ func (a *author) part(letter byte) string {
 		return a.jump()
 	}
 	return a.one(letter)
+}
+
+// late makes a function that has returned panic, at times: so what comes of its value is asked for.
+func (a *author) late() string {
+	if a.Intn(3) > 0 {
+		return ""
+	}
+	return "defer func() { print(\"?\", recover()) }()\ndefer func() { if up() % 2 == 0 { panic(\"late\") } }()\n"
 }
 
 // one is a variable, or a form that fits.

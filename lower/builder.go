@@ -28,7 +28,7 @@ func (b *builder) emit(i code.Instr) {
 	b.code = append(b.code, i)
 }
 
-// begin lays out the registers that a call fills, and boxes the params that must be.
+// begin lays out the registers that a call fills, and boxes the params that must be. A param is made when its function is called: ahead of the safepoint, at which the run may end.
 func (b *builder) begin(params, captures []int) {
 	for _, v := range params {
 		b.registers[v] = b.register(types.Reference(b.variable(v).Type))
@@ -36,12 +36,12 @@ func (b *builder) begin(params, captures []int) {
 	for _, v := range captures {
 		b.registers[v] = b.register(true)
 	}
-	b.emit(code.Instr{Op: code.Yield})
 	for _, v := range params {
 		if b.variable(v).Boxed {
 			b.boxParam(v)
 		}
 	}
+	b.emit(code.Instr{Op: code.Yield})
 }
 
 // boxParam puts the box into the param's own register where it can, so that nothing else holds on to what was handed in.

@@ -207,6 +207,32 @@ func main() { f() }`)
 	}
 }
 
+// TestBeginnings asks that boxed params, and nothing else, are made ahead of a function's safepoint.
+func TestBeginnings(t *testing.T) {
+	for _, x := range []struct {
+		f    string
+		want []int
+	}{
+		{"func f() { }", []int{code.Yield}},
+		{"func f(a int) { print(a) }", []int{code.Yield}},
+		{"func f(a int) { func() { print(a) }() }", []int{code.MakeBox, code.Yield}},
+		{"func f(a string) { func() { print(a) }() }", []int{code.MakeBox, code.Yield}},
+		{"func f(a int, b []int, c bool) { func() { print(a, c) }() }", []int{code.MakeBox, code.MakeBox, code.Yield}},
+		{"func f(a int, b []int, c bool) { func() { func() { print(len(b)) }() }(); for { } }", []int{code.MakeBox, code.Yield}},
+		{"func f(a int) { b := a; func() { print(b) }() }", []int{code.Yield}},
+		{"func f(a int) { for { a := 1; func() { print(a) }() } }", []int{code.Yield}},
+	} {
+		_, p := sound(t, x.f+"\nfunc main() { }")
+		var ops []int
+		for _, i := range p.Funcs[0].Code[:len(x.want)] {
+			ops = append(ops, i.Op)
+		}
+		if !slices.Equal(ops, x.want) {
+			t.Errorf("%s: begins with %v, not %v", x.f, ops, x.want)
+		}
+	}
+}
+
 // TestEnds asks that a Return stands behind the last statement, whatever that is.
 func TestEnds(t *testing.T) {
 	for _, body := range []string{"", "return", "for { }", "x := 1; x++", "panic(\"a\")", "if true { return }", "select { }", "switch { default: return }", "a: for { continue a }"} {

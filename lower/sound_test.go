@@ -141,8 +141,31 @@ func (a *auditor) head() {
 			a.fail("box %d", r)
 		}
 	}
-	if a.f.Code[0].Op != code.Yield || a.f.Code[len(a.f.Code)-1].Op != code.Return {
-		a.fail("begins with %d, ends with %d", a.f.Code[0].Op, a.f.Code[len(a.f.Code)-1].Op)
+	if last := a.f.Code[len(a.f.Code)-1].Op; last != code.Return {
+		a.fail("ends with %d", last)
+	}
+	a.beginning()
+}
+
+// beginning asks that the boxed params are made when the function is called: ahead of its safepoint, and nothing else is.
+func (a *auditor) beginning() {
+	isYield := func(i code.Instr) bool { return i.Op == code.Yield }
+	ahead := a.f.Code[:max(0, slices.IndexFunc(a.f.Code, isYield))]
+	var boxed, made []int
+	for r, v := range a.unit.Funcs[a.at-1].Params {
+		if a.unit.Vars[v-1].Boxed {
+			boxed = append(boxed, r)
+		}
+	}
+	for _, i := range ahead {
+		if i.Op != code.MakeBox {
+			a.fail("begins with %+v", ahead)
+		}
+		made = append(made, i.B)
+	}
+	slices.Sort(made)
+	if !slices.Equal(made, boxed) {
+		a.fail("the params %v are boxed, not %v", made, boxed)
 	}
 }
 

@@ -36,10 +36,10 @@ func (r *reader) invoke(t *task, by *frame, f *function, args []value) value {
 		if s.vars == nil {
 			s.vars = map[int]*cell{}
 		}
-		r.safepoint(t)
 		for k, v := range of.Params {
 			s.declare(v, args[k])
 		}
+		r.safepoint(t)
 		s.stmts(of.Body.Kids)
 		return s.answer
 	})

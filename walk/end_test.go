@@ -265,3 +265,56 @@ func two(x int, y int) int { return func() int { return y }() + x }
 		}
 	}
 }
+
+// TestMadeWhereAFunctionWaits ends runs while another goroutine's function waits at its beginning: its params were made when it was called.
+func TestMadeWhereAFunctionWaits(t *testing.T) {
+	const file = `
+func f(x int) { func() { print(x) }() }
+func g() { f(1) }
+func h() { defer f(1) }
+func two(x int, y string, z []int) { func() { print(x, len(z)) }(); print(y) }
+func plain(x int) { print(x) }
+`
+	for _, x := range []struct {
+		main   string
+		script []int
+		output string
+		want   walk.Made
+	}{
+		{`go g(); print("m")`, nil, "m", walk.Made{}},
+		{`go g(); print("m")`, []int{0, 1, 1}, "m", walk.Made{}},
+		{`go g(); print("m")`, []int{0, 1, 0, 1}, "m", walk.Made{Boxes: 1}},
+		{`go g(); print("m")`, []int{0, 1, 0, 0}, "1m", walk.Made{Boxes: 1, Closures: 1}},
+		{`go g(); print("m")`, []int{0, 1, 0, 0, 1}, "m", walk.Made{Boxes: 1, Closures: 1}},
+		{`go f(1); print("m")`, nil, "m", walk.Made{}},
+		{`go f(1); print("m")`, []int{0, 1, 1}, "m", walk.Made{Boxes: 1}},
+		{`go f(1); go f(2); print("m")`, []int{0, 1, 1, 1, 1, 1}, "m", walk.Made{Boxes: 2, Closures: 1}},
+		{`go f(1); go f(2); print("m")`, []int{0, 1, 1, 1, 1, 0}, "2m", walk.Made{Boxes: 2, Closures: 2}},
+		{`go f(1); go f(2); print("m")`, []int{0, 0, 1, 1, 1}, "m", walk.Made{Boxes: 2}},
+		{`go h(); print("m")`, []int{0, 1, 1}, "m", walk.Made{}},
+		{`go h(); print("m")`, []int{0, 1, 0, 1}, "m", walk.Made{Boxes: 1}},
+		{`go two(1, "a", nil); print("m")`, []int{0, 1, 1}, "m", walk.Made{Boxes: 2}},
+		{`go two(1, "a", []int{1}); print("m")`, []int{0, 1, 0, 0}, "11am", walk.Made{Boxes: 2, Closures: 1, Arrays: 1}},
+		{`go plain(1); print("m")`, []int{0, 1, 1}, "m", walk.Made{}},
+		{`go func() { func(y int) { func() { print(y) }() }(3) }(); print("m")`, []int{0, 1, 0, 1}, "m", walk.Made{Boxes: 1, Closures: 2}},
+		{`x := 5; go func(y int) { x = y; func() { print(y) }() }(3); print("m", x)`, []int{0, 1, 1}, "m5", walk.Made{Boxes: 2, Closures: 1}},
+	} {
+		o, made := outcome(t, "func main() { "+x.main+" }\n"+file, x.script)
+		if o != (api.Outcome{State: api.Exited, Output: x.output}) || made != x.want {
+			t.Errorf("%s %v\n%+v %+v, not %q %+v", x.main, x.script, o, made, x.output, x.want)
+		}
+	}
+	fatal := api.Outcome{State: api.Fatal, Code: 2, Output: "m", Why: "panic: end"}
+	if o, made := outcome(t, `func main() { go g(); print("m"); panic("end") }`+file, []int{0, 1, 0, 1}); o != fatal || made != (walk.Made{Boxes: 1}) {
+		t.Errorf("%+v %+v", o, made)
+	}
+}
+
+// TestACallThatIsNotMade has as many boxed params as functions that could be called.
+func TestACallThatIsNotMade(t *testing.T) {
+	o, made := outcome(t, `func f(x int) { defer func() { x++ }(); f(x) }
+func main() { f(1) }`, nil)
+	if o != (api.Outcome{State: api.Fatal, Code: 2, Why: "fatal: stack overflow"}) || made != (walk.Made{Boxes: api.MaxDepth - 1, Closures: api.MaxDepth - 1}) {
+		t.Errorf("%+v %+v", o, made)
+	}
+}

@@ -71,10 +71,10 @@ func (r *tree) invoke(t *task, by *invocation, f *closure, args []any) any {
 	}
 	panicked := r.under(t, by, func(c *invocation) {
 		s.call = c
-		r.safepoint(t)
 		for k, v := range of.Params {
 			s.declare(v, args[k])
 		}
+		r.safepoint(t)
 		s.stmts(of.Body.Kids)
 	})
 	if panicked {

@@ -51,6 +51,7 @@ var corpus = []group{
 		`x := ""; for i := 0; i < 40; i++ { x += "ab"; print(len(x), x[len(x)-1], x[i:i+2] == "ab", x[i:i+2] == "ba") }; print(x)`,
 		`var x string; print(x, len(x), x == "", x + "x"); x += "y"; print(x); gs = x + x; print(gs, gs[1], len(gs))`,
 		`x := "abcdef" + ""; y := x[1:5]; z := y[1:3]; x = "x"; print(y, z, z[0], len(z))`,
+		`for i := 0; i < 3; i++ { print("abc"[i], "xyz"[i], "klm"[i], "uvw"[i], "rst"[i], " "); print("mno"[i:], "def"[:i], len("ghij"), "pq" + "jk", "hi" < "hj", " ") }`,
 		`print("abc"[3])`, `x := "abc" + "d"; print(x[4])`, `x := "abc" + "d"; print(x[-1])`, `print(gs[0])`, `x := "abcdefg" + "h"; print(x[7]); print(x[8])`,
 		`x := "abc" + "d"; print(x[2:1])`, `x := "abc" + "d"; print(x[:5])`, `print("abc"[4:])`, `x := "abc" + "d"; print(x[-1:])`, `print(gs[:1])`,
 		`print(len(long()), len(long() + ""), len("" + long()), len(long()[1:] + "b"), long()[16383])`, `x := long() + "b"`, `x := "b" + long()`, `x := long()[1:] + "b"; print(x[16382], x[16383]); defer say(); x += "c"`,

@@ -31,6 +31,7 @@ func TestTold(t *testing.T) {
 		{`var a []int; a = a[:]; a = append(a); a = append(a, 1)`, great, enough, api.Exited, vm.Told{Made: walk.Made{Arrays: 1}, Blocks: 2, Points: 1}},
 		{`c := make(chan int, 3); d := make(chan chan int, 1); d <- c; <-d; go func() { }()`, great, enough, api.Exited, vm.Told{Made: walk.Made{Chans: 2, Closures: 1}, Blocks: 3, Points: 2}},
 		{`gs = "a" + "b"; s := gs[1:]; s = gs + s; s = ""; print("constant", add == nil)`, great, enough, api.Exited, vm.Told{Blocks: 3, Reached: 1, Points: 1}},
+		{`defer func() { recover() }(); a := []int{1}; a = a[2:]`, great, enough, api.Exited, vm.Told{Made: walk.Made{Closures: 1, Arrays: 1}, Blocks: 1 + 2 + 1, Points: 2}},
 		{`g = new(T); p := new(T); p.p.n++`, great, enough, api.Fatal, vm.Told{Made: walk.Made{Objects: 2}, Blocks: 2, Reached: 1, Points: 1}},
 		{`f := add(1); g.n = f()`, great, enough, api.Fatal, vm.Told{Made: walk.Made{Boxes: 1, Closures: 1}, Blocks: 2, Points: 3}},
 		{`p := new(T); select { }; p.n++`, great, enough, api.Fatal, vm.Told{Made: walk.Made{Objects: 1}, Blocks: 1, Reached: 1, Points: 1}},

@@ -14,7 +14,7 @@ const (
 	refuse = "error\n"
 )
 
-// answer does what a line asks for, and answers it, the line ends with it.
+// answer does what a line asks for. The answer has its line ends.
 func (d *desk) answer(line string) string {
 	if text, isText := strings.CutPrefix(line, "|"); isText {
 		d.source += text + "\n"
